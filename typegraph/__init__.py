@@ -1,0 +1,1 @@
+"""Terms as shared graphs: the calls on one are answered by typegraph.graph.answers."""
