@@ -29,6 +29,22 @@ def size(a):
     return [5, a]
 
 
+def opens(a):
+    return [6, a]
+
+
+def copy(a, keep=()):
+    return [7, a, len(keep)] + list(keep)
+
+
+def becomes(a, b):
+    return [8, a, b]
+
+
+def mark():
+    return [9]
+
+
 def back():
     return [10]
 
@@ -61,9 +77,18 @@ def written(parts, text):
     return [parts] + list(text.encode("latin-1"))
 
 
+def tower(levels, width, first=0):
+    """Calls for types that stand in one another, each width times in the next, where the graph has first nodes.
+
+    Each level is an open node and its P. The open node first is the only variable; the last P has all in it.
+    """
+    calls = [read("(P" + " a" * width + ")")] * levels
+    return calls + [unify(first + 2 * level - 1, first + 2 * level) for level in range(1, levels)]
+
+
 def look_at(count):
     """Calls that tell all that can be told of a graph of this many nodes."""
-    calls = [type_of(a) for a in range(count)] + [size(a) for a in range(count)]
+    calls = [call(a) for call in [type_of, size, opens] for a in range(count)]
     for a in range(count):
         calls += [same(a, b) for b in range(a)] + [meets(a, b) for b in range(a)]
     return calls + [read("z"), size(count + 1)]

@@ -13,7 +13,7 @@ Break Continue Pass Raise Call Attribute Subscript Slice Name Load Store List Tu
 IfExp ListComp comprehension keyword Add Sub Mult FloorDiv Mod USub Not And Or Eq NotEq Lt LtE Gt GtE In NotIn Is
 IsNot""".split()
 
-BUILT_IN = """len range enumerate zip min max sum abs sorted reversed int str bool list tuple dict isinstance ord any all
+BUILT_IN = """len range enumerate zip min max sum abs sorted reversed int str bool list tuple dict set isinstance ord any all
 divmod Exception ValueError KeyError True False None""".split()
 
 METHODS = """append clear copy count endswith extend find get index insert items join keys pop remove replace reverse
@@ -120,6 +120,15 @@ class Form(unittest.TestCase):
         for name, part in self.parts():
             if isinstance(part, ast.Call) and isinstance(part.func, ast.Attribute):
                 self.assertIn(part.func.attr, METHODS + own, (name, part.lineno))
+
+    def test_sets_are_sorted_on_the_spot(self):
+        for name, tree in self.trees.items():
+            sets = [part for part in ast.walk(tree) if isinstance(part, ast.Name) and part.id == "set"]
+            held = [part.args[0].func for part in ast.walk(tree)
+                    if isinstance(part, ast.Call) and isinstance(part.func, ast.Name)
+                    and part.func.id in ["sorted", "len"] and part.args and isinstance(part.args[0], ast.Call)]
+            for part in sets:
+                self.assertIn(part, held, (name, part.lineno))
 
     def test_the_top_of_a_file_keeps_nothing(self):
         for name, tree in self.trees.items():

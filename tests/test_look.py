@@ -2,18 +2,12 @@
 
 import unittest
 
-from tests.helper import last, look_at, read, run, same, size, type_of, unify, written
+from tests.helper import last, look_at, read, run, same, size, tower, type_of, unify, written
 
 
 def wide(count):
     """A type with this many parts, in a graph of two nodes."""
     return read("(F" + " a" * (count - 1) + ")")
-
-
-def tower(levels, width):
-    """Calls for types that stand in one another, each width times in the next; the last has the largest node."""
-    calls = [read("(P" + " a" * width + ")")] * levels
-    return calls + [unify(2 * level - 1, 2 * level) for level in range(1, levels)]
 
 
 class Same(unittest.TestCase):

@@ -4,7 +4,7 @@ import random
 import re
 import unittest
 
-from tests.helper import back, meets, read, run, same, size, type_of, unify
+from tests.helper import back, becomes, copy, mark, meets, opens, read, run, same, size, type_of, unify
 
 LOWER = re.compile(r"[a-z][a-zA-Z0-9']*\Z")
 CONSTANT = re.compile(r"([A-Z][a-zA-Z0-9']*|->)\Z")
@@ -60,11 +60,12 @@ def words_of(tree):
 
 
 class Model:
-    """Nodes as (constant or None, arguments), and the pairs that were made one."""
+    """Nodes as (constant or None, arguments), the pairs that were made one, and both as they were at each mark."""
 
     def __init__(self):
         self.nodes = []
         self.pairs = []
+        self.marks = []
 
     def read(self, text):
         try:
@@ -151,11 +152,75 @@ class Model:
         first = self.term(a, groups, [], 10 ** 5)
         if name == "same":
             return [1 if first == self.term(b, groups, [], 10 ** 5) else 0]
+        if name == "becomes":
+            return [1 if fits(first, self.term(b, groups, [], 10 ** 5), {}) else 0]
         if name == "size":
             return [parts_of(first)]
+        if name == "opens":
+            names = sorted({int(leaf[1:]) for leaf in leaves_of(first) if leaf[0] == "v"})
+            return [len(names)] + names
         if parts_of(first) > 200:
             return [-6]
         return [parts_of(first)] + [ord(sign) for sign in written(first)]
+
+
+    def name(self, node, groups):
+        return min(next(group for group in groups if node in group))
+
+    def inside(self, node, groups):
+        """The names of all that stands in the node's type."""
+        found = {self.name(node, groups)}
+        for other, (word, arguments) in enumerate(self.nodes):
+            if self.name(other, groups) in found and word is not None:
+                found = found.union(*[self.inside(argument, groups) for argument in arguments])
+        return found
+
+    def copy(self, a, keep):
+        if any(not 0 <= node < len(self.nodes) for node in [a] + keep):
+            return [-3]
+        groups = self.groups(self.pairs)
+        kept = {leaf for node in keep for leaf in leaves_of(self.term(node, groups, [], 10 ** 5))}
+        names = []
+        for name in sorted(self.inside(a, groups)):
+            leaves = leaves_of(self.term(name, groups, [], 10 ** 5))
+            if any(leaf[0] == "v" and leaf not in kept for leaf in leaves):
+                names.append(name)
+        if len(self.nodes) + len(names) > 100:
+            return [-8]
+        count = len(self.nodes)
+        for name in names:
+            group = next(group for group in groups if name in group)
+            word, arguments = max((self.nodes[node] for node in group), key=lambda pair: pair[0] is not None)
+            heads = [self.name(argument, groups) for argument in arguments]
+            self.nodes.append((word, [count + names.index(head) if head in names else argument
+                                      for head, argument in zip(heads, arguments)]))
+        name = self.name(a, groups)
+        return [count + names.index(name)] if name in names else [a]
+
+    def mark(self):
+        if len(self.marks) == 16:
+            return [-8]
+        self.marks.append((list(self.nodes), list(self.pairs)))
+        return [len(self.marks)]
+
+    def back(self):
+        if not self.marks:
+            return [-5]
+        self.nodes, self.pairs = self.marks.pop()
+        return [len(self.nodes)]
+
+
+def leaves_of(term):
+    """The words of a type's variables, and of its constants without arguments."""
+    return {term[0]} if len(term) == 1 else {leaf for part in term[1:] for leaf in leaves_of(part)}
+
+
+def fits(term, other, put_in):
+    """Whether the term becomes the other; put_in has what was put in for its variables so far."""
+    if term[0][0] == "v":
+        return put_in.setdefault(term[0], other) == other
+    return (term[0] == other[0] and len(term) == len(other)
+            and all(fits(part, there, put_in) for part, there in zip(term[1:], other[1:])))
 
 
 def parts_of(term):
@@ -170,9 +235,9 @@ def written(term):
 
 def some_type(source, depth):
     if depth == 0 or source.random() < 0.4:
-        return source.choice(["a", "b", "c", "A", "B"])
-    width = source.choice([1, 2, 2, 3])
-    return "(" + source.choice(["F", "G", "->"]) + "".join(
+        return source.choice(["a", "b", "c", "d", "A", "B"])
+    width = source.choice([1, 2, 2, 2, 3])
+    return "(" + source.choice(["F", "F", "F", "->"]) + "".join(
         " " + some_type(source, depth - 1) for place in range(width)) + ")"
 
 
@@ -183,39 +248,56 @@ def some_text(source):
     return "".join(source.choice(signs) for place in range(source.randint(0, 9)))
 
 
+ON_TWO = {"unify": unify, "meets": meets, "same": same, "becomes": becomes}
+ON_ONE = {"type": type_of, "size": size, "opens": opens}
+OFTEN = ["read", "unify", "copy", "becomes"] * 2 + ["unify", "mark", "back"] + list(ON_TWO) + list(ON_ONE)
+
+
+def some_node(source, model):
+    """Seldom a number that is no node."""
+    if not model.nodes or source.random() < 0.05:
+        return source.choice([-1, len(model.nodes)])
+    return source.randrange(len(model.nodes))
+
+
+def some_call(source, model, name):
+    """A call, and what the model answers."""
+    a = some_node(source, model)
+    b = some_node(source, model)
+    if name == "read":
+        text = some_text(source)
+        return read(text), model.read(text)
+    if name == "copy":
+        keep = [some_node(source, model) for place in range(source.choice([0, 0, 1, 2, 5]))]
+        return copy(a, keep), model.copy(a, keep)
+    if name == "mark":
+        return mark(), model.mark()
+    if name == "back":
+        return back(), model.back()
+    if name in ON_TWO:
+        return ON_TWO[name](a, b), model.look(name, a, b)
+    return ON_ONE[name](a), model.look(name, a, a)
+
+
 class AgainstModel(unittest.TestCase):
     def check(self, seed):
         source = random.Random(seed)
         model = Model()
-        calls = []
-        expected = []
-        for step in range(source.randint(5, 25)):
-            a = source.randint(-1, len(model.nodes))
-            b = source.randint(-1, len(model.nodes))
-            name = source.choice(["read"] * 2 + ["unify"] * 4 + ["meets", "same", "type", "size", "back"])
-            if step < 3:
-                name = "read"
-            if name == "read":
-                text = some_text(source)
-                calls.append(read(text))
-                expected.append(model.read(text))
-            elif name == "back":
-                calls.append(back())
-                expected.append([-5])
-            else:
-                call = {"unify": unify, "meets": meets, "same": same}.get(name)
-                calls.append(call(a, b) if call else {"type": type_of, "size": size}[name](a))
-                expected.append(model.look(name, a, b if call else a))
-        self.assertEqual(run(*calls), expected, seed)
-        return expected
+        names = ["read"] * 3 + [source.choice(OFTEN) for step in range(source.randint(2, 40))]
+        steps = [(name,) + some_call(source, model, name) for name in names]
+        self.assertEqual(run(*[step[1] for step in steps]), [step[2] for step in steps], seed)
+        return [(step[0], step[2][0]) for step in steps]
 
     def test_many_lists(self):
         seen = {}
-        for seed in range(1500):
-            for answer in self.check(seed):
-                seen[answer[0]] = seen.get(answer[0], 0) + 1
-        for number in [-9, -7, -5, -3, -1, 0, 1, 2, 3]:
-            self.assertGreater(seen.get(number, 0), 100, number)
+        for seed in range(2000):
+            for step in self.check(seed):
+                seen[step] = seen.get(step, 0) + 1
+        for step in [("read", -1), ("unify", -9), ("unify", -7), ("unify", -3), ("unify", 0), ("unify", 1), ("unify", 2),
+                     ("meets", 0), ("meets", 1), ("same", 0), ("same", 1), ("type", 1), ("size", 3), ("opens", 0),
+                     ("opens", 2), ("copy", -3), ("copy", 3), ("copy", 20), ("becomes", 0), ("becomes", 1), ("mark", 1),
+                     ("mark", 2), ("back", -5), ("back", 5)]:
+            self.assertGreater(seen.get(step, 0), 15, step)
 
     def test_many_texts(self):
         source = random.Random(5)

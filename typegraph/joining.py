@@ -1,6 +1,5 @@
 """Makes two nodes of a graph one, with all that follows from it."""
 
-from typegraph.nodes import NO_WORD
 from typegraph.terms import goes_round
 
 TAKEN = 0
@@ -10,14 +9,14 @@ ROUND = -9
 
 def are_unlike(graph, low, high):
     """Whether what has these names has constants that can't be one."""
-    if graph.words[low] == NO_WORD or graph.words[high] == NO_WORD:
+    if graph.is_variable(low) or graph.is_variable(high):
         return False
-    return graph.words[low] != graph.words[high] or len(graph.arguments[low]) != len(graph.arguments[high])
+    return not graph.have_like_heads(low, high)
 
 
 def merge(graph, low, high):
     """Let what has the name high be one with what has the lesser name low."""
-    if graph.words[low] == NO_WORD:
+    if graph.is_variable(low):
         graph.words[low] = graph.words[high]
         graph.arguments[low] = graph.arguments[high]
     graph.names = [low if name == high else name for name in graph.names]

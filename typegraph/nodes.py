@@ -35,8 +35,15 @@ class Graph:
     def argument_names(self, name):
         return [self.names[argument] for argument in self.arguments[name]]
 
+    def is_variable(self, name):
+        return self.words[name] == NO_WORD
+
+    def have_like_heads(self, first, second):
+        """Whether what has these names has the same constant, with as many arguments."""
+        return self.words[first] == self.words[second] and len(self.arguments[first]) == len(self.arguments[second])
+
     def count_variables(self):
-        return len([name for name in self.all_names() if self.words[name] == NO_WORD])
+        return len([name for name in self.all_names() if self.is_variable(name)])
 
     def duplicate(self):
         other = Graph()
